@@ -16,6 +16,15 @@ func Of(payload string) string {
 	return length + two(sum(length, payload)) + payload
 }
 
+// Only tells the payload of a text that is one frame and nothing else.
+func Only(text string) (string, bool) {
+	payload, ok := first(text)
+	if !ok || len(text) != headSize+len(payload) {
+		return "", false
+	}
+	return payload, true
+}
+
 // All goes through the frames that stand one behind the other from the text's beginning on: of each its payload, a piece of the text, and the place behind it.
 func All(text string) iter.Seq2[string, int] {
 	return func(yield func(string, int) bool) {

@@ -71,3 +71,20 @@ func TestAllBeginsAnewEachTime(t *testing.T) {
 		}
 	}
 }
+
+func TestOnlyTakesOneFrameAndNothingElse(t *testing.T) {
+	for _, payload := range []string{"", "a", strings.Repeat("z", 4000)} {
+		if got, ok := Only(Of(payload)); got != payload || !ok {
+			t.Errorf("Only of the frame of %.20q = %.20q, %t", payload, got, ok)
+		}
+		whole := Of(payload)
+		for _, text := range []string{whole + "x", whole + "\x00", whole + whole, whole + Of(""), whole[:len(whole)-1], "x" + whole} {
+			if got, ok := Only(text); got != "" || ok {
+				t.Errorf("Only(%.20x) = %.20q, %t", text, got, ok)
+			}
+		}
+	}
+	if got, ok := Only(""); got != "" || ok {
+		t.Errorf("Only of nothing = %q, %t", got, ok)
+	}
+}

@@ -5,11 +5,17 @@ import (
 	"strings"
 
 	"stockroom/api"
+	"stockroom/book"
 	"stockroom/frames"
 )
 
-// Shop keeps the book.
-type Shop struct{}
+// Shop keeps the book, and the files that it is opened by again.
+type Shop struct {
+	book book.Book
+	log  string        // without what was cut off
+	snap string        // empty if there is none: a frame never is
+	gone chan struct{} // closed when the power goes
+}
 
 // Frame frames a payload (P3).
 func Frame(payload string) (string, api.Errno) {
@@ -32,22 +38,68 @@ func Scan(text string) ([]string, int) {
 }
 
 // Open opens a shop by what is on the disk (P5, P6).
-func Open(files []api.File, c api.Config) (*Shop, api.Errno) { return nil, api.OK }
+func Open(files []api.File, c api.Config) (*Shop, api.Errno) {
+	if !isConfig(c) {
+		return nil, api.ErrConfig
+	}
+	if !areFiles(files) {
+		return nil, api.ErrFiles
+	}
+	b, ok := bookAsOf(files)
+	if !ok {
+		return nil, api.ErrSnap
+	}
+	b.Keep(c.Window)
+	log, _ := dataOf(files, logName)
+	log = log[:b.Replay(log)]
+	snap, _ := dataOf(files, snapName)
+	return &Shop{book: b, log: strings.Clone(log), snap: strings.Clone(snap), gone: make(chan struct{})}, api.OK
+}
 
 // Serve answers requests (P7, P8).
 func (s *Shop) Serve(l []api.Request) ([]api.Reply, api.Errno) { return nil, api.OK }
 
 // Cell tells what is in a cell (P9).
-func (s *Shop) Cell(i int) (api.Cell, api.Errno) { return api.Cell{}, api.OK }
+func (s *Shop) Cell(i int) (api.Cell, api.Errno) {
+	if s.isDown() {
+		return api.Cell{}, api.ErrDown
+	}
+	if i < 0 || i >= api.Cells {
+		return api.Cell{}, api.ErrArg
+	}
+	return s.book.Cell(i), api.OK
+}
 
 // Hold tells of a hold (P9).
-func (s *Shop) Hold(h int) (api.Hold, api.Errno) { return api.Hold{}, api.OK }
+func (s *Shop) Hold(h int) (api.Hold, api.Errno) {
+	if s.isDown() {
+		return api.Hold{}, api.ErrDown
+	}
+	if h < 1 || h > api.MaxHold {
+		return api.Hold{}, api.ErrArg
+	}
+	hold, live := s.book.Hold(h)
+	if !live {
+		return api.Hold{}, api.ErrNone
+	}
+	return hold, api.OK
+}
 
 // Clock tells the time of the last tick (P9).
-func (s *Shop) Clock() (int, api.Errno) { return 0, api.OK }
+func (s *Shop) Clock() (int, api.Errno) {
+	if s.isDown() {
+		return 0, api.ErrDown
+	}
+	return s.book.Clock(), api.OK
+}
 
 // Count tells how many requests have been done (P9).
-func (s *Shop) Count() (int, api.Errno) { return 0, api.OK }
+func (s *Shop) Count() (int, api.Errno) {
+	if s.isDown() {
+		return 0, api.ErrDown
+	}
+	return s.book.Count(), api.OK
+}
 
 // Checkpoint writes a snapshot and empties the log (P10).
 func (s *Shop) Checkpoint() api.Errno { return api.OK }
@@ -57,3 +109,13 @@ func (s *Shop) Arm(n int) {}
 
 // Left tells what is on the disk, if the power goes now or is gone (P12).
 func (s *Shop) Left(keep int, junk string) []api.File { return nil }
+
+// isDown tells whether the power is gone.
+func (s *Shop) isDown() bool {
+	select {
+	case <-s.gone:
+		return true
+	default:
+		return false
+	}
+}

@@ -1,0 +1,52 @@
+package book
+
+import (
+	"stockroom/api"
+	"stockroom/frames"
+)
+
+// record: a request, and as the how many-th it was done.
+type record struct {
+	number  int
+	request api.Request
+}
+
+func readRecord(payload string) (record, bool) {
+	r := &reader{left: payload}
+	rec := record{number: r.next(), request: r.request()}
+	return rec, r.ended()
+}
+
+// Replay does the records of a log that the book has not done yet, and tells the place where the log ends: behind the last frame that goes on from the one ahead.
+func (b *Book) Replay(log string) int {
+	old := b.done
+	ahead, end := 0, 0
+walk:
+	for payload, behind := range frames.All(log) {
+		rec, ok := readRecord(payload)
+		if !ok || !follows(rec.number, ahead, old) {
+			break walk
+		}
+		ahead = rec.number
+		if rec.number <= old {
+			end = behind
+			continue walk
+		}
+		if _, done := b.Ask(rec.request); !done {
+			break walk
+		}
+		end = behind
+	}
+	return end
+}
+
+// follows tells whether a record's number may stand behind the one ahead, which is 0 for the first: that one need only leave no gap behind the requests that the book has done of old.
+func follows(number, ahead, old int) bool {
+	if number > MaxDone {
+		return false
+	}
+	if ahead == 0 {
+		return number >= 1 && number <= old+1
+	}
+	return number == ahead+1
+}
