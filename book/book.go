@@ -1,4 +1,4 @@
-// Package book: what a store has, what of it is held, and which requests were done; how it is read from the disk.
+// Package book: what a store has, what of it is held, and which requests were done; how it is read from the disk, and how what was done is told to it.
 package book
 
 import "stockroom/api"
@@ -40,20 +40,29 @@ func (b *Book) Keep(window int) {
 }
 
 // Ask says what becomes of a request, and whether it was done. One that was not changes nothing.
-func (b *Book) Ask(r api.Request) (api.Reply, bool) {
-	if !isRequest(r) {
-		return api.Reply{Code: api.Wrong}, false
+func (b *Book) Ask(x Looked) (api.Reply, bool) {
+	if reply, known := b.Known(x); known {
+		return reply, false
 	}
-	if old, ok := b.recall(r.ID); ok {
-		if old.request != r {
-			return api.Reply{Code: api.Conflict}, false
-		}
-		return old.reply, false
-	}
-	reply := b.do(r)
+	reply := b.do(x.request)
 	b.done++
-	b.remember(answered{r, reply})
+	b.remember(answered{x.request, reply})
 	return reply, true
+}
+
+// Known tells the reply to what would not be done, and whether it is that: no request, or one with a remembered ID.
+func (b *Book) Known(x Looked) (api.Reply, bool) {
+	if !x.good {
+		return api.Reply{Code: api.Wrong}, true
+	}
+	old, ok := b.recall(x.request.ID)
+	if !ok {
+		return api.Reply{}, false
+	}
+	if old.request != x.request {
+		return api.Reply{Code: api.Conflict}, true
+	}
+	return old.reply, true
 }
 
 // do carries out a request that is not remembered.

@@ -31,7 +31,7 @@ func checkAsking(t *testing.T, b *Book, l ...asking) {
 	t.Helper()
 	for i, a := range l {
 		before := *b
-		reply, done := b.Ask(a.request)
+		reply, done := b.Ask(LookOver(a.request))
 		if want := (api.Reply{Code: a.code, Count: a.count}); reply != want || done != a.done {
 			t.Errorf("%d: of %v became %v, %t, want %v, %t", i, a.request, reply, done, want, a.done)
 		}
@@ -189,11 +189,11 @@ func TestEachWindow(t *testing.T) {
 		b := New()
 		b.Keep(window)
 		for id := 1; id <= 30; id++ {
-			b.Ask(receive(id, 0, 1))
+			b.Ask(LookOver(receive(id, 0, 1)))
 		}
 		for id := 1; id <= 30; id++ {
 			c := b
-			if _, done := c.Ask(receive(id, 0, 1)); done != (id <= 30-window) {
+			if _, done := c.Ask(LookOver(receive(id, 0, 1))); done != (id <= 30-window) {
 				t.Errorf("window %d: ID %d is done again: %t", window, id, done)
 			}
 		}
@@ -203,7 +203,7 @@ func TestEachWindow(t *testing.T) {
 func TestKeepForgetsTheFirst(t *testing.T) {
 	b := New()
 	for id := 1; id <= 5; id++ {
-		b.Ask(receive(id, 0, 1))
+		b.Ask(LookOver(receive(id, 0, 1)))
 	}
 	b.Keep(8)
 	checkAsking(t, &b, asking{receive(1, 0, 1), 0, 1, false})
@@ -223,5 +223,37 @@ func TestACopySharesNothing(t *testing.T) {
 	checkAsking(t, &c, asking{receive(3, 0, 5), 0, 8, true}, asking{commit(4, 1), 0, 2, true}, asking{tick(5, 9), 0, 0, true})
 	if b != before {
 		t.Error("what was done in a copy changed the book")
+	}
+}
+
+func TestWhatWasNotLookedOverIsWrong(t *testing.T) {
+	b := New()
+	for _, x := range []Looked{{}, {request: receive(1, 0, 5)}, LookOver(api.Request{}), LookOver(receive(1, 8, 5))} {
+		if reply, done := b.Ask(x); reply != (api.Reply{Code: api.Wrong}) || done || b != New() {
+			t.Errorf("of %v became %v, %t", x, reply, done)
+		}
+	}
+}
+
+// Known tells what Ask does, where that does nothing, and changes nothing where Ask would.
+func TestKnown(t *testing.T) {
+	b := New()
+	b.Keep(2)
+	checkAsking(t, &b, asking{receive(1, 0, 5), 0, 5, true}, asking{reserve(2, 0, 1, 2, 9), 0, 3, true}, asking{commit(3, 2), 1, 0, true})
+	before := b
+	for _, x := range []struct {
+		request     api.Request
+		code, count int
+		known       bool
+	}{
+		{reserve(2, 0, 1, 2, 9), 0, 3, true}, {commit(3, 2), 1, 0, true}, {commit(2, 2), 2, 0, true}, {commit(3, 3), 2, 0, true},
+		{commit(2, 51), 4, 0, true}, {api.Request{}, 4, 0, true}, {receive(1, 0, 5), 0, 0, false}, {receive(4, 0, 5), 0, 0, false}, {commit(5, 1), 0, 0, false},
+	} {
+		if reply, known := b.Known(LookOver(x.request)); reply != (api.Reply{Code: x.code, Count: x.count}) || known != x.known {
+			t.Errorf("of %v is known %v, %t", x.request, reply, known)
+		}
+		if b != before {
+			t.Fatalf("asking what is known of %v changed the book", x.request)
+		}
 	}
 }

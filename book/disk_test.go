@@ -126,7 +126,7 @@ func TestReplayPassesOverWhatWasDone(t *testing.T) {
 	var books []Book
 	for i, r := range requests {
 		books = append(books, whole)
-		whole.Ask(r)
+		whole.Ask(LookOver(r))
 		log = append(log, recordText(i+1, r))
 	}
 	books = append(books, whole)
@@ -154,5 +154,25 @@ func TestRecordsOfOtherLengths(t *testing.T) {
 	}
 	if _, ok := readRecord(four(slices.Repeat([]int{1<<32 - 1}, 7)...)); !ok {
 		t.Error("a record of great numbers is none")
+	}
+}
+
+func TestRecordHasTheWrittenBytes(t *testing.T) {
+	for _, x := range []struct {
+		number int
+		r      api.Request
+		want   string
+	}{
+		{1, receive(2, 3, 4), "\x01\x00\x00\x00\x02\x00\x00\x00\x00\x00\x00\x00\x03\x00\x00\x00\x00\x00\x00\x00\x04\x00\x00\x00\x00\x00\x00\x00"},
+		{0x3b9aca00, reserve(0x01020304, 7, 50, 0x0f4240, 0x05060708), "\x00\xca\x9a\x3b\x04\x03\x02\x01\x01\x00\x00\x00\x07\x00\x00\x00\x32\x00\x00\x00\x40\x42\x0f\x00\x08\x07\x06\x05"},
+		{256, commit(257, 9), "\x00\x01\x00\x00\x01\x01\x00\x00\x02\x00\x00\x00\x00\x00\x00\x00\x09\x00\x00\x00\x00\x00\x00\x00\x00\x00\x00\x00"},
+	} {
+		text := Record(x.number, LookOver(x.r))
+		if text != x.want {
+			t.Errorf("the record of %v as number %d is %x, want %x", x.r, x.number, text, x.want)
+		}
+		if rec, ok := readRecord(text); !ok || rec != (record{x.number, x.r}) {
+			t.Errorf("the record of %v as number %d is read as %v, %t", x.r, x.number, rec, ok)
+		}
 	}
 }

@@ -1,21 +1,6 @@
 package book
 
-import (
-	"stockroom/api"
-	"stockroom/frames"
-)
-
-// record: a request, and as the how many-th it was done.
-type record struct {
-	number  int
-	request api.Request
-}
-
-func readRecord(payload string) (record, bool) {
-	r := &reader{left: payload}
-	rec := record{number: r.next(), request: r.request()}
-	return rec, r.ended()
-}
+import "stockroom/frames"
 
 // Replay does the records of a log that the book has not done yet, and tells the place where the log ends: behind the last frame that goes on from the one ahead.
 func (b *Book) Replay(log string) int {
@@ -32,7 +17,7 @@ walk:
 			end = behind
 			continue walk
 		}
-		if _, done := b.Ask(rec.request); !done {
+		if _, done := b.Ask(LookOver(rec.request)); !done {
 			break walk
 		}
 		end = behind

@@ -2,6 +2,17 @@ package book
 
 import "stockroom/api"
 
+// Looked: numbers of which it is known whether they are a request's. A book takes nothing else, so that none goes in unseen.
+type Looked struct {
+	request api.Request
+	good    bool
+}
+
+// LookOver hangs on no book: many requests may be looked over at the same time.
+func LookOver(r api.Request) Looked {
+	return Looked{request: r, good: isRequest(r)}
+}
+
 // isRequest tells whether the numbers are a request's: what its kind asks for is within bounds, and the others are 0.
 func isRequest(r api.Request) bool {
 	if r.ID < 1 || r.ID > api.MaxID {

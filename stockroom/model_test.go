@@ -249,6 +249,51 @@ func (m *model) replay(log string) int {
 	return end
 }
 
+// shopModel is P7: a shop by the document's words.
+type shopModel struct {
+	*model
+	config api.Config
+	log    string
+}
+
+func (m *model) clone() *model {
+	c := *m
+	c.holds, c.past = maps.Clone(m.holds), slices.Clone(m.past)
+	return &c
+}
+
+func (s *shopModel) serve(l []api.Request) []api.Reply {
+	var replies []api.Reply
+	for len(l) > 0 {
+		n := min(len(l), s.config.Group)
+		replies = append(replies, s.serveGroup(l[:n])...)
+		l = l[n:]
+	}
+	return replies
+}
+
+func (s *shopModel) serveGroup(group []api.Request) []api.Reply {
+	after, log := s.model.clone(), s.log
+	replies := make([]api.Reply, len(group))
+	for i, r := range group {
+		var done bool
+		if replies[i], done = after.ask(r); done {
+			log += recordOf(after.count, r)
+		}
+	}
+	if len(log) == len(s.log) || len(log) <= s.config.Room && after.count <= 1000000000 {
+		s.model, s.log = after, log
+		return replies
+	}
+	for i, r := range group {
+		var done bool
+		if replies[i], done = s.model.clone().ask(r); done {
+			replies[i] = api.Reply{Code: 3}
+		}
+	}
+	return replies
+}
+
 // told is all that a shop tells.
 type told struct {
 	count, clock int

@@ -2,6 +2,7 @@
 package stockroom
 
 import (
+	"slices"
 	"strings"
 
 	"stockroom/api"
@@ -11,10 +12,12 @@ import (
 
 // Shop keeps the book, and the files that it is opened by again.
 type Shop struct {
-	book book.Book
-	log  string        // without what was cut off
-	snap string        // empty if there is none: a frame never is
-	gone chan struct{} // closed when the power goes
+	book  book.Book
+	group int           // how many requests are done together
+	room  int           // how many bytes the log may have
+	log   string        // without what was cut off
+	snap  string        // empty if there is none: a frame never is
+	gone  chan struct{} // closed when the power goes
 }
 
 // Frame frames a payload (P3).
@@ -53,11 +56,27 @@ func Open(files []api.File, c api.Config) (*Shop, api.Errno) {
 	log, _ := dataOf(files, logName)
 	log = log[:b.Replay(log)]
 	snap, _ := dataOf(files, snapName)
-	return &Shop{book: b, log: strings.Clone(log), snap: strings.Clone(snap), gone: make(chan struct{})}, api.OK
+	return &Shop{
+		book:  b,
+		group: c.Group,
+		room:  c.Room,
+		log:   strings.Clone(log),
+		snap:  strings.Clone(snap),
+		gone:  make(chan struct{}),
+	}, api.OK
 }
 
 // Serve answers requests (P7, P8).
-func (s *Shop) Serve(l []api.Request) ([]api.Reply, api.Errno) { return nil, api.OK }
+func (s *Shop) Serve(l []api.Request) ([]api.Reply, api.Errno) {
+	if s.isDown() {
+		return nil, api.ErrDown
+	}
+	replies := make([]api.Reply, 0, len(l))
+	for group := range slices.Chunk(l, s.group) {
+		replies = append(replies, s.serveGroup(group)...)
+	}
+	return replies, api.OK
+}
 
 // Cell tells what is in a cell (P9).
 func (s *Shop) Cell(i int) (api.Cell, api.Errno) {

@@ -1,0 +1,10 @@
+package book
+
+// fours writes numbers as the reader takes them.
+func fours(numbers ...int) string {
+	var text []byte
+	for _, n := range numbers {
+		text = append(text, byte(n), byte(n>>8), byte(n>>16), byte(n>>24))
+	}
+	return string(text)
+}
