@@ -1,4 +1,4 @@
-// Package book: what a store has, what of it is held, and which requests were done; how it is read from the disk, and how what was done is told to it.
+// Package book: what a store has, what of it is held, and which requests were done; how it is read from what is on the disk, and how it is written there.
 package book
 
 import "stockroom/api"

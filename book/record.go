@@ -10,8 +10,7 @@ type record struct {
 
 // Record tells the payload of the record of a request that was done as the number-th.
 func Record(number int, x Looked) string {
-	r := x.request
-	return fours(number, r.ID, r.Kind, r.Cell, r.Hold, r.Count, r.Time)
+	return fours(number) + requestText(x.request)
 }
 
 func readRecord(payload string) (record, bool) {

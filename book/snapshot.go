@@ -2,6 +2,36 @@ package book
 
 import "stockroom/api"
 
+// Snapshot tells the payload by which Restore tells this book again, but for its window.
+func (b *Book) Snapshot() string {
+	text := fours(b.done, b.clock)
+	for _, c := range b.cells {
+		text += fours(c.onHand, c.committed)
+	}
+	return text + b.holdsText() + b.pastText()
+}
+
+// holdsText tells how many holds are live, and each of them by rising number.
+func (b *Book) holdsText() string {
+	live, text := 0, ""
+	for number, hold := range b.holds {
+		if b.isLive(number) {
+			live++
+			text += fours(number, hold.Cell, hold.Count, hold.Time)
+		}
+	}
+	return fours(live) + text
+}
+
+// pastText tells how many requests are remembered, and each of them with its reply.
+func (b *Book) pastText() string {
+	text := fours(b.remembered)
+	for _, old := range b.past[:b.remembered] {
+		text += requestText(old.request) + fours(old.reply.Code, old.reply.Count)
+	}
+	return text
+}
+
 // Restore tells the book of a snapshot, if the payload is one. It remembers all that the snapshot does.
 func Restore(payload string) (Book, bool) {
 	r := &reader{left: payload}

@@ -249,11 +249,41 @@ func (m *model) replay(log string) int {
 	return end
 }
 
-// shopModel is P7: a shop by the document's words.
+// shopModel is P7, P10 and P12, with the power there: a shop by the document's words. A snap that is empty is not there.
 type shopModel struct {
 	*model
-	config api.Config
-	log    string
+	config    api.Config
+	log, snap string
+}
+
+// openShopModel tells the model of the shop of some files, which must be such as Open takes.
+func openShopModel(t *testing.T, files []api.File, c api.Config) *shopModel {
+	t.Helper()
+	m, end, e := openModel(files, c)
+	if e != api.OK {
+		t.Fatalf("the model is not opened: error %d", e)
+	}
+	s := &shopModel{model: m, config: c}
+	for _, f := range files {
+		switch f.Name {
+		case "log":
+			s.log = f.Data[:end]
+		case "snap":
+			s.snap = f.Data
+		}
+	}
+	return s
+}
+
+func (s *shopModel) checkpoint() {
+	s.snap, s.log = frameOf(fourOf(s.snapshot()...)), ""
+}
+
+func (s *shopModel) left() []api.File {
+	if s.snap == "" {
+		return []api.File{{Name: "log", Data: s.log}}
+	}
+	return []api.File{{Name: "log", Data: s.log}, {Name: "snap", Data: s.snap}}
 }
 
 func (m *model) clone() *model {

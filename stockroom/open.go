@@ -5,14 +5,8 @@ import (
 
 	"stockroom/api"
 	"stockroom/book"
+	"stockroom/disk"
 	"stockroom/frames"
-)
-
-// The names that a file may have.
-const (
-	logName  = "log"
-	snapName = "snap"
-	tmpName  = "tmp"
 )
 
 func isConfig(c api.Config) bool {
@@ -27,7 +21,7 @@ func areFiles(files []api.File) bool {
 look:
 	for i, f := range files {
 		switch f.Name {
-		case logName, snapName, tmpName:
+		case disk.Log, disk.Snap, disk.Tmp:
 			if _, twice := dataOf(files[:i], f.Name); !twice {
 				continue look
 			}
@@ -49,7 +43,7 @@ func dataOf(files []api.File, name string) (string, bool) {
 
 // bookAsOf tells the book of the snapshot among the files, or the one at the beginning; none, if the snapshot is none.
 func bookAsOf(files []api.File) (book.Book, bool) {
-	snap, there := dataOf(files, snapName)
+	snap, there := dataOf(files, disk.Snap)
 	if !there {
 		return book.New(), true
 	}

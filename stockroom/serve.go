@@ -24,10 +24,11 @@ func (s *Shop) serveGroup(group []api.Request) []api.Reply {
 	if records == "" {
 		return replies
 	}
-	if len(s.log)+len(records) > s.room || next.Count() > book.MaxDone {
+	if s.disk.LogLength()+len(records) > s.room || next.Count() > book.MaxDone {
 		return refusals
 	}
-	s.log += records
+	s.disk.WriteLog(records)
+	s.disk.SyncLog()
 	s.book = next
 	return replies
 }

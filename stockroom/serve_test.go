@@ -476,12 +476,7 @@ func TestServeTheDocumentsExample(t *testing.T) {
 	checkServe(t, "ID 2 of 4", s, "c0", reserve(2, 0, 7, 4, 10))
 	checkServe(t, "ID 1", s, "f0", receive(1, 0, 5))
 	checkTold(t, "behind them", s, "3 done, clock 0, cell 0: 5 = 3 held + 0 gone + 2 free, hold 7: 3 of 0 until 10")
-	// The log's room is made here by opening a shop with a snapshot in place of the log.
-	m := newModel(2)
-	for _, r := range []api.Request{receive(1, 0, 5), reserve(2, 0, 7, 3, 10), reserve(3, 0, 8, 3, 10)} {
-		m.ask(r)
-	}
-	s = mustOpen(t, configOf(2, 2, 100), snapOf(m.snapshot()))
+	checkCheckpoint(t, "a full log", s)
 	checkServe(t, "ID 1, with room", s, "d7", receive(1, 0, 5))
 	checkTold(t, "with room", s, "4 done, clock 0, cell 0: 10 = 3 held + 0 gone + 7 free, hold 7: 3 of 0 until 10")
 	checkServe(t, "ID 4", s, "d3", commit(4, 7))
@@ -494,12 +489,10 @@ func TestServeAgainstTheModel(t *testing.T) {
 	for i := range 3000 {
 		files, c := someFiles(r)
 		c.Room = []int{100, 100 + r.Intn(600), c.Room}[r.Intn(3)]
-		m, end, e := openModel(files, c)
-		if e != api.OK {
+		if _, _, e := openModel(files, c); e != api.OK {
 			continue
 		}
-		at := slices.IndexFunc(files, func(f api.File) bool { return f.Name == "log" })
-		shop := &shopModel{model: m, config: c, log: files[at].Data[:end]}
+		shop := openShopModel(t, files, c)
 		s := mustOpen(t, c, files...)
 		for range 1 + r.Intn(4) {
 			l := someRequests(r)

@@ -2,9 +2,9 @@ package stockroom
 
 import (
 	"math/rand"
+	"slices"
 	"strings"
 	"testing"
-	"unsafe"
 
 	"stockroom/api"
 	"stockroom/book"
@@ -51,44 +51,6 @@ func TestQuestionsWithoutPower(t *testing.T) {
 	}
 }
 
-// P6: what stands behind the log's end is cut off at once.
-func TestOpenCutsTheLogOff(t *testing.T) {
-	one, two := record(1, 1, 0, 0, 0, 5, 0), record(2, 2, 1, 0, 7, 3, 10)
-	for _, x := range []struct{ log, want string }{
-		{"", ""}, {"junk", ""}, {one, one}, {one + two, one + two},
-		{one + two[:31], one}, {one + "junk" + two, one}, {two, ""}, {one + two + two, one + two},
-		{one + frames.Of("no record") + two, one}, {one + record(2, 2, 1, 8, 7, 3, 10) + two, one},
-	} {
-		s := open(t, api.File{Name: "log", Data: x.log}, api.File{Name: "tmp", Data: one})
-		if s.log != x.want || s.snap != "" {
-			t.Errorf("of the log %x is left %x, want %x", x.log, s.log, x.want)
-		}
-	}
-}
-
-// P6: records that the snapshot's book has done are passed over, but stay in the log.
-func TestOpenKeepsWhatIsPassedOver(t *testing.T) {
-	snap := frames.Of("\x02\x00\x00\x00" + strings.Repeat("\x00", 76))
-	log := record(1, 9, 9, 9, 9, 9, 9) + record(2, 0, 0, 0, 0, 0, 0)
-	s := open(t, api.File{Name: "snap", Data: snap}, api.File{Name: "log", Data: log + record(4, 1, 4, 0, 0, 0, 1)})
-	if s.log != log || s.snap != snap {
-		t.Errorf("left are the log %x and the snap %x", s.log, s.snap)
-	}
-}
-
-// P2: the shop's files are copies.
-func TestOpenKeepsNoMemoryHandedIn(t *testing.T) {
-	log := strings.Clone(record(1, 1, 0, 0, 0, 5, 0))
-	snap := frames.Of(strings.Repeat("\x00", 80))
-	s := open(t, api.File{Name: "log", Data: log}, api.File{Name: "snap", Data: snap})
-	if s.log != log || unsafe.StringData(s.log) == unsafe.StringData(log) {
-		t.Error("the log is not a copy of what was handed in")
-	}
-	if s.snap != snap || unsafe.StringData(s.snap) == unsafe.StringData(snap) {
-		t.Error("the snap is not a copy of what was handed in")
-	}
-}
-
 func requests(first, n int) []api.Request {
 	var l []api.Request
 	for i := range n {
@@ -112,58 +74,62 @@ func TestServeWithoutPower(t *testing.T) {
 	}
 }
 
-// P7: the records of what was done stand at the log's end, and those of nothing else.
-func TestServeWritesRecords(t *testing.T) {
-	receive, reserve := api.Request{ID: 1, Kind: api.Receive, Cell: 3, Count: 5}, api.Request{ID: 2, Kind: api.Reserve, Cell: 3, Hold: 7, Count: 4, Time: 10}
-	commit, release, tick := api.Request{ID: 3, Kind: api.Commit, Hold: 7}, api.Request{ID: 4, Kind: api.Release, Hold: 7}, api.Request{ID: 5, Kind: api.Tick, Time: 9}
-	whole := record(1, 1, 0, 3, 0, 5, 0) + record(2, 2, 1, 3, 7, 4, 10) + record(3, 3, 2, 0, 7, 0, 0) + record(4, 4, 3, 0, 7, 0, 0) + record(5, 5, 4, 0, 0, 0, 9)
-	for group := 1; group <= api.MaxGroup; group++ {
-		s, _ := Open(nil, api.Config{Window: 20, Group: group, Room: 5000})
-		for _, x := range []struct {
-			l    []api.Request
-			want string
-		}{
-			{nil, ""}, {[]api.Request{{}, {ID: 1, Kind: 5}}, ""},
-			{[]api.Request{receive, receive, {}, reserve, reserve}, whole[:64]},
-			{[]api.Request{receive, reserve, {ID: 1, Kind: api.Tick}}, whole[:64]},
-			{[]api.Request{commit, release, tick, release, commit}, whole},
-		} {
-			if _, e := s.Serve(x.l); e != api.OK || s.log != x.want || s.snap != "" {
-				t.Errorf("groups of %d: behind %v the log is %x, want %x", group, x.l, s.log, x.want)
+// P6, P7, P10, P12: a shop that is opened by what another leaves has its book, and remembers what that one does.
+func TestAShopIsOutlivedByItsFiles(t *testing.T) {
+	r := rand.New(rand.NewSource(5))
+	for range 300 {
+		c := api.Config{Window: 1 + r.Intn(20), Group: 1 + r.Intn(16), Room: 100 + r.Intn(3000)}
+		s, _ := Open(nil, c)
+		for range 8 {
+			s.Serve(mixed(r, r.Intn(40)))
+			if r.Intn(3) == 0 {
+				s.Checkpoint()
+			}
+			left := s.Left(r.Intn(9), "junk")
+			again, e := Open(left, c)
+			if e != api.OK {
+				t.Fatalf("with %v: what is left may not be opened: error %d", c, e)
+			}
+			if again.book != s.book || again.disk != s.disk {
+				t.Fatalf("with %v: opened again it has done %d, was %d", c, again.book.Count(), s.book.Count())
+			}
+			if len(left[0].Data) > c.Room {
+				t.Fatalf("with %v: the log has %d bytes", c, len(left[0].Data))
+			}
+			if r.Intn(2) == 0 {
+				s = again
 			}
 		}
 	}
 }
 
-// P7: a group that is refused writes nothing.
-func TestServeWritesNothingOfARefusedGroup(t *testing.T) {
-	s, _ := Open(nil, api.Config{Window: 20, Group: 3, Room: 100})
-	s.Serve(requests(1, 1))
-	one := record(1, 1, 0, 0, 0, 1, 0)
-	if s.Serve(requests(2, 3)); s.log != one {
-		t.Errorf("behind a refused group the log is %x", s.log)
-	}
-	if s.Serve(requests(2, 2)); s.log != one+record(2, 2, 0, 0, 0, 1, 0)+record(3, 3, 0, 0, 0, 1, 0) {
-		t.Errorf("behind a group that there is room for the log is %x", s.log)
+// P10: without power Checkpoint does nothing.
+func TestCheckpointWithoutPower(t *testing.T) {
+	for _, files := range [][]api.File{nil, {{Name: "log", Data: record(1, 1, 0, 0, 0, 1, 0)}}, {{Name: "snap", Data: frames.Of(strings.Repeat("\x00", 80))}}} {
+		s := open(t, files...)
+		close(s.gone)
+		before := *s
+		for range 2 {
+			if e := s.Checkpoint(); e != api.ErrDown {
+				t.Errorf("Checkpoint = %d", e)
+			}
+		}
+		if *s != before {
+			t.Error("a checkpoint without power changed the shop")
+		}
 	}
 }
 
-// P7: a shop that is opened by the files of another has its book, and remembers what that one does.
-func TestServeOutlivesItsShop(t *testing.T) {
-	r := rand.New(rand.NewSource(5))
-	for range 300 {
-		c := api.Config{Window: 1 + r.Intn(20), Group: 1 + r.Intn(16), Room: 100 + r.Intn(3000)}
-		s, _ := Open(nil, c)
-		for range 5 {
-			s.Serve(mixed(r, r.Intn(40)))
-			again, e := Open([]api.File{{Name: "log", Data: s.log}}, c)
-			if e != api.OK || again.book != s.book || again.log != s.log {
-				t.Fatalf("with %v: opened again it has done %d, was %d, error %d", c, again.book.Count(), s.book.Count(), e)
+// P12: what is left is told when the power is gone too.
+func TestLeftWithoutPower(t *testing.T) {
+	log, snap := api.File{Name: "log", Data: record(1, 1, 0, 0, 0, 1, 0)}, api.File{Name: "snap", Data: frames.Of(strings.Repeat("\x00", 80))}
+	for _, files := range [][]api.File{{log}, {log, snap}} {
+		s := open(t, files...)
+		close(s.gone)
+		for _, keep := range []int{-1, 0, 1, 99} {
+			if got := s.Left(keep, "junk"); !slices.Equal(got, files) {
+				t.Errorf("Left(%d) = %q, want %q", keep, got, files)
 			}
-			if len(s.log) > c.Room || len(s.log) != 32*s.book.Count() {
-				t.Fatalf("with %v: the log has %d bytes, %d are done", c, len(s.log), s.book.Count())
-			}
-			s = again
 		}
 	}
 }

@@ -7,6 +7,7 @@ import (
 
 	"stockroom/api"
 	"stockroom/book"
+	"stockroom/disk"
 	"stockroom/frames"
 )
 
@@ -15,8 +16,7 @@ type Shop struct {
 	book  book.Book
 	group int           // how many requests are done together
 	room  int           // how many bytes the log may have
-	log   string        // without what was cut off
-	snap  string        // empty if there is none: a frame never is
+	disk  disk.Disk     // without what was cut off
 	gone  chan struct{} // closed when the power goes
 }
 
@@ -53,15 +53,14 @@ func Open(files []api.File, c api.Config) (*Shop, api.Errno) {
 		return nil, api.ErrSnap
 	}
 	b.Keep(c.Window)
-	log, _ := dataOf(files, logName)
-	log = log[:b.Replay(log)]
-	snap, _ := dataOf(files, snapName)
+	log, _ := dataOf(files, disk.Log)
+	snap, _ := dataOf(files, disk.Snap)
+	end := b.Replay(log)
 	return &Shop{
 		book:  b,
 		group: c.Group,
 		room:  c.Room,
-		log:   strings.Clone(log),
-		snap:  strings.Clone(snap),
+		disk:  disk.Of(log[:end], snap),
 		gone:  make(chan struct{}),
 	}, api.OK
 }
@@ -121,13 +120,24 @@ func (s *Shop) Count() (int, api.Errno) {
 }
 
 // Checkpoint writes a snapshot and empties the log (P10).
-func (s *Shop) Checkpoint() api.Errno { return api.OK }
+func (s *Shop) Checkpoint() api.Errno {
+	if s.isDown() {
+		return api.ErrDown
+	}
+	s.disk.WriteTmp(frames.Of(s.book.Snapshot()))
+	s.disk.SyncTmp()
+	s.disk.MakeSnap()
+	s.disk.EmptyLog()
+	return api.OK
+}
 
 // Arm says at which disk step from now on the power goes (P11).
 func (s *Shop) Arm(n int) {}
 
 // Left tells what is on the disk, if the power goes now or is gone (P12).
-func (s *Shop) Left(keep int, junk string) []api.File { return nil }
+func (s *Shop) Left(keep int, junk string) []api.File {
+	return s.disk.Left(keep, junk)
+}
 
 // isDown tells whether the power is gone.
 func (s *Shop) isDown() bool {
