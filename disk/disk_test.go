@@ -31,24 +31,26 @@ func TestSteps(t *testing.T) {
 	d := Of("old", "elder")
 	for _, x := range []struct {
 		what             string
-		step             func()
+		step             func() bool
 		none, some, more string
 	}{
-		{"opened", func() {}, "log=old snap=elder", "log=old snap=elder", "log=old snap=elder"},
-		{"the log written", func() { d.WriteLog("new") }, "log=old snap=elder", "log=oldn! snap=elder", "log=oldnew! snap=elder"},
-		{"more of it written", func() { d.WriteLog("er") }, "log=old snap=elder", "log=oldn! snap=elder", "log=oldnewer! snap=elder"},
+		{"opened", func() bool { return true }, "log=old snap=elder", "log=old snap=elder", "log=old snap=elder"},
+		{"the log written", func() bool { return d.WriteLog("new") }, "log=old snap=elder", "log=oldn! snap=elder", "log=oldnew! snap=elder"},
+		{"more of it written", func() bool { return d.WriteLog("er") }, "log=old snap=elder", "log=oldn! snap=elder", "log=oldnewer! snap=elder"},
 		{"the log synced", d.SyncLog, "log=oldnewer snap=elder", "log=oldnewer snap=elder", "log=oldnewer snap=elder"},
 		{"the log synced again", d.SyncLog, "log=oldnewer snap=elder", "log=oldnewer snap=elder", "log=oldnewer snap=elder"},
-		{"the tmp written", func() { d.WriteTmp("young") }, "log=oldnewer snap=elder tmp=", "log=oldnewer snap=elder tmp=y!", "log=oldnewer snap=elder tmp=young!"},
+		{"the tmp written", func() bool { return d.WriteTmp("young") }, "log=oldnewer snap=elder tmp=", "log=oldnewer snap=elder tmp=y!", "log=oldnewer snap=elder tmp=young!"},
 		{"the tmp synced", d.SyncTmp, "log=oldnewer snap=elder tmp=young", "log=oldnewer snap=elder tmp=young", "log=oldnewer snap=elder tmp=young"},
 		{"made the snap", d.MakeSnap, "log=oldnewer snap=young", "log=oldnewer snap=young", "log=oldnewer snap=young"},
 		{"the log emptied", d.EmptyLog, "log= snap=young", "log= snap=young", "log= snap=young"},
-		{"the log written anew", func() { d.WriteLog("x") }, "log= snap=young", "log=x! snap=young", "log=x! snap=young"},
+		{"the log written anew", func() bool { return d.WriteLog("x") }, "log= snap=young", "log=x! snap=young", "log=x! snap=young"},
 	} {
-		x.step()
-		checkLeft(t, x.what, &d, 0, "", x.none)
-		checkLeft(t, x.what, &d, 1, "!", x.some)
-		checkLeft(t, x.what, &d, 1000, "!", x.more)
+		if !x.step() {
+			t.Errorf("%s: the power went", x.what)
+		}
+		checkLeft(t, x.what, d, 0, "", x.none)
+		checkLeft(t, x.what, d, 1, "!", x.some)
+		checkLeft(t, x.what, d, 1000, "!", x.more)
 	}
 }
 
@@ -57,15 +59,15 @@ func TestWhatIsThere(t *testing.T) {
 		{"", "", "log="}, {"a", "", "log=a"}, {"", "b", "log= snap=b"}, {"a", "b", "log=a snap=b"},
 	} {
 		d := Of(x.log, x.snap)
-		checkLeft(t, "opened", &d, 9, "junk", x.want)
+		checkLeft(t, "opened", d, 9, "junk", x.want)
 		d.WriteTmp("c")
-		checkLeft(t, "with a tmp", &d, 0, "", x.want+" tmp=")
+		checkLeft(t, "with a tmp", d, 0, "", x.want+" tmp=")
 	}
 	d := Of("", "")
 	d.WriteTmp("c")
 	d.SyncTmp()
 	d.MakeSnap()
-	checkLeft(t, "the first snap", &d, 9, "junk", "log= snap=c")
+	checkLeft(t, "the first snap", d, 9, "junk", "log= snap=c")
 }
 
 func TestLeftKeepsTheFirstBytes(t *testing.T) {
@@ -77,10 +79,10 @@ func TestLeftKeepsTheFirstBytes(t *testing.T) {
 			for _, junk := range []string{"", "x", "junk"} {
 				d := Of(old, "snap")
 				d.WriteLog("under way")
-				checkLeft(t, "the log", &d, x.keep, junk, "log="+old+x.want+junk+" snap=snap")
+				checkLeft(t, "the log", d, x.keep, junk, "log="+old+x.want+junk+" snap=snap")
 				d = Of(old, "snap")
 				d.WriteTmp("under way")
-				checkLeft(t, "the tmp", &d, x.keep, junk, "log="+old+" snap=snap tmp="+x.want+junk)
+				checkLeft(t, "the tmp", d, x.keep, junk, "log="+old+" snap=snap tmp="+x.want+junk)
 			}
 		}
 	}
@@ -91,9 +93,9 @@ func TestLeftTakesTheFirstBytesOfTheJunk(t *testing.T) {
 	for _, n := range []int{0, 1, 49, 50, 51, 100, 10000} {
 		d := Of("old", "")
 		d.WriteLog("new")
-		checkLeft(t, fmt.Sprint(n, " bytes of junk"), &d, 2, long[:n], "log=oldne"+long[:min(n, 50)])
+		checkLeft(t, fmt.Sprint(n, " bytes of junk"), d, 2, long[:n], "log=oldne"+long[:min(n, 50)])
 		d.SyncLog()
-		checkLeft(t, fmt.Sprint(n, " bytes of junk, none under way"), &d, 2, long[:n], "log=oldnew")
+		checkLeft(t, fmt.Sprint(n, " bytes of junk, none under way"), d, 2, long[:n], "log=oldnew")
 	}
 }
 
@@ -101,47 +103,42 @@ func TestLeftChangesNothing(t *testing.T) {
 	d := Of("old", "elder")
 	d.WriteLog("new")
 	d.WriteTmp("young")
-	before := d
+	before := *d
 	for _, keep := range []int{-1, 0, 2, 99} {
 		l := d.Left(keep, "junk")
 		for i := range l[:cap(l)] {
 			l[:cap(l)][i] = api.File{Name: "x", Data: "x"}
 		}
 	}
-	if d != before {
+	if *d != before {
 		t.Error("Left, or what was written into its answer, changed the disk")
 	}
-	checkLeft(t, "later", &d, 1, "", "log=oldn snap=elder tmp=y")
+	checkLeft(t, "later", d, 1, "", "log=oldn snap=elder tmp=y")
 }
 
 func TestLogLength(t *testing.T) {
 	d := Of("old", "elder")
-	for _, x := range []struct {
-		step func()
-		want int
-	}{
-		{func() {}, 3}, {func() { d.WriteLog("newer") }, 8}, {d.SyncLog, 8}, {func() { d.WriteLog("x") }, 9},
-		{func() { d.WriteTmp("young") }, 9}, {d.MakeSnap, 9}, {d.EmptyLog, 0}, {func() { d.WriteLog("y") }, 1},
-	} {
-		x.step()
-		if n := d.LogLength(); n != x.want {
-			t.Errorf("the log has %d bytes, want %d", n, x.want)
+	check := func(want int) {
+		t.Helper()
+		if n := d.LogLength(); n != want {
+			t.Errorf("the log has %d bytes, want %d", n, want)
 		}
 	}
-}
-
-func TestACopySharesNothing(t *testing.T) {
-	d := Of("old", "elder")
-	c, before := d, d
-	c.WriteLog("new")
-	c.SyncLog()
-	c.WriteTmp("young")
-	c.SyncTmp()
-	c.MakeSnap()
-	c.EmptyLog()
-	if d != before {
-		t.Error("what was done to a copy changed the disk")
-	}
+	check(3)
+	d.WriteLog("newer")
+	check(8)
+	d.SyncLog()
+	check(8)
+	d.WriteLog("x")
+	check(9)
+	d.WriteTmp("young")
+	check(9)
+	d.MakeSnap()
+	check(9)
+	d.EmptyLog()
+	check(0)
+	d.WriteLog("y")
+	check(1)
 }
 
 // textOf tells a text whose bytes may be changed later.
@@ -152,7 +149,7 @@ func TestKeepsNoMemoryHandedIn(t *testing.T) {
 	d := Of(textOf(log), textOf(snap))
 	clear(log)
 	clear(snap)
-	checkLeft(t, "opened", &d, 0, "", "log=old snap=elder")
+	checkLeft(t, "opened", d, 0, "", "log=old snap=elder")
 }
 
 // The junk alone, what is kept alone, and what was synced alone are joined to nothing; the answer is a copy all the same.
@@ -175,7 +172,7 @@ func TestLeftAnswersNewMemory(t *testing.T) {
 				if got := tellFiles(second); got != want {
 					t.Errorf("an answer changed from %s to %s", want, got)
 				}
-				checkLeft(t, "later", &d, keep, "junk", want)
+				checkLeft(t, "later", d, keep, "junk", want)
 			}
 		}
 	}

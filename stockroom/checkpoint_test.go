@@ -214,7 +214,7 @@ func TestCheckpointOfALogOfOld(t *testing.T) {
 		if got, e := s.Serve(l); e != api.OK || !slices.Equal(got, m.serve(l)) || repliesOf(got[3:]) != "f0" {
 			t.Errorf("%s: behind a checkpoint Serve = %s, %d", x.what, repliesOf(got), e)
 		}
-		checkLeft(t, x.what+", served", s, m.left()...)
+		checkLeft(t, x.what+", served", s, m.left(0, "")...)
 		again := mustOpen(t, m.config, s.Left(0, "")...)
 		if got := tell(t, again); got != m.told() {
 			t.Errorf("%s: opened again the shop tells %v, want %v", x.what, got, m.told())

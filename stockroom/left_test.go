@@ -213,11 +213,11 @@ func TestLeftAgainstTheModel(t *testing.T) {
 				checkCheckpoint(t, fmt.Sprint("run ", i), s)
 				m.checkpoint()
 			case "open again":
-				s, m = mustOpen(t, c, s.Left(r.Intn(40), "junk")...), openShopModel(t, m.left(), c)
+				s, m = mustOpen(t, c, s.Left(r.Intn(40), "junk")...), openShopModel(t, m.left(0, ""), c)
 			}
 			seen[what]++
-			if got := s.Left(r.Intn(40)-1, junks[r.Intn(len(junks))]); !slices.Equal(got, m.left()) {
-				t.Fatalf("run %d, %v: behind %s left are%s\nwant%s", i, c, what, filesOf(got), filesOf(m.left()))
+			if got := s.Left(r.Intn(40)-1, junks[r.Intn(len(junks))]); !slices.Equal(got, m.left(0, "")) {
+				t.Fatalf("run %d, %v: behind %s left are%s\nwant%s", i, c, what, filesOf(got), filesOf(m.left(0, "")))
 			}
 			if got := tell(t, s); got != m.told() {
 				t.Fatalf("run %d, %v: behind %s\nthe shop tells %v\nwant           %v", i, c, what, got, m.told())

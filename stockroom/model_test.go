@@ -249,11 +249,14 @@ func (m *model) replay(log string) int {
 	return end
 }
 
-// shopModel is P7, P10 and P12, with the power there: a shop by the document's words. A snap that is empty is not there.
+// shopModel is P7, P8 and P10 to P12: a shop by the document's words. A snap that is empty is not there, nor a tmp of which nothing was written.
 type shopModel struct {
 	*model
-	config    api.Config
-	log, snap string
+	config         api.Config
+	log, snap, tmp string // what was synced
+	logWay, tmpWay string // what is under way
+	armed          int    // the power goes when this has come down to 0
+	gone           bool
 }
 
 // openShopModel tells the model of the shop of some files, which must be such as Open takes.
@@ -275,15 +278,53 @@ func openShopModel(t *testing.T, files []api.File, c api.Config) *shopModel {
 	return s
 }
 
-func (s *shopModel) checkpoint() {
-	s.snap, s.log = frameOf(fourOf(s.snapshot()...)), ""
+func (s *shopModel) arm(n int) {
+	if !s.gone {
+		s.armed = max(n, 0)
+	}
 }
 
-func (s *shopModel) left() []api.File {
-	if s.snap == "" {
-		return []api.File{{Name: "log", Data: s.log}}
+// step counts a disk step, and tells whether the power stayed.
+func (s *shopModel) step() bool {
+	s.armed--
+	s.gone = s.gone || s.armed == 0
+	return !s.gone
+}
+
+func (s *shopModel) checkpoint() api.Errno {
+	if s.gone {
+		return 7
 	}
-	return []api.File{{Name: "log", Data: s.log}, {Name: "snap", Data: s.snap}}
+	s.tmpWay = frameOf(fourOf(s.snapshot()...))
+	for _, done := range []func(){
+		func() {},
+		func() { s.tmp, s.tmpWay = s.tmpWay, "" },
+		func() { s.snap, s.tmp = s.tmp, "" },
+		func() { s.log = "" },
+	} {
+		if !s.step() {
+			return 7
+		}
+		done()
+	}
+	return 0
+}
+
+func (s *shopModel) left(keep int, junk string) []api.File {
+	behind := func(synced, way string) string {
+		if way == "" {
+			return synced
+		}
+		return synced + way[:min(max(keep, 0), len(way))] + junk[:min(50, len(junk))]
+	}
+	files := []api.File{{Name: "log", Data: behind(s.log, s.logWay)}}
+	if s.snap != "" {
+		files = append(files, api.File{Name: "snap", Data: s.snap})
+	}
+	if s.tmp+s.tmpWay != "" {
+		files = append(files, api.File{Name: "tmp", Data: behind(s.tmp, s.tmpWay)})
+	}
+	return files
 }
 
 func (m *model) clone() *model {
@@ -292,9 +333,10 @@ func (m *model) clone() *model {
 	return &c
 }
 
+// serve tells the replies, those of the groups ahead if the power goes or none if it is gone: the error is for the caller to tell.
 func (s *shopModel) serve(l []api.Request) []api.Reply {
 	var replies []api.Reply
-	for len(l) > 0 {
+	for len(l) > 0 && !s.gone {
 		n := min(len(l), s.config.Group)
 		replies = append(replies, s.serveGroup(l[:n])...)
 		l = l[n:]
@@ -303,16 +345,23 @@ func (s *shopModel) serve(l []api.Request) []api.Reply {
 }
 
 func (s *shopModel) serveGroup(group []api.Request) []api.Reply {
-	after, log := s.model.clone(), s.log
+	after, records := s.model.clone(), ""
 	replies := make([]api.Reply, len(group))
 	for i, r := range group {
 		var done bool
 		if replies[i], done = after.ask(r); done {
-			log += recordOf(after.count, r)
+			records += recordOf(after.count, r)
 		}
 	}
-	if len(log) == len(s.log) || len(log) <= s.config.Room && after.count <= 1000000000 {
-		s.model, s.log = after, log
+	if records == "" {
+		return replies
+	}
+	if len(s.log+records) <= s.config.Room && after.count <= 1000000000 {
+		s.logWay = records
+		if !s.step() || !s.step() {
+			return nil
+		}
+		s.model, s.log, s.logWay = after, s.log+records, ""
 		return replies
 	}
 	for i, r := range group {

@@ -8,8 +8,8 @@ import (
 	"stockroom/frames"
 )
 
-// serveGroup answers the requests of one group. What it does it does in a copy of the book, so that none is done if there is no room for all.
-func (s *Shop) serveGroup(group []api.Request) []api.Reply {
+// serveGroup answers the requests of one group, or tells that the power went. What it does it does in a copy of the book, so that none is done if there is no room for all.
+func (s *Shop) serveGroup(group []api.Request) ([]api.Reply, bool) {
 	next := s.book
 	records := ""
 	var replies, refusals []api.Reply
@@ -22,15 +22,16 @@ func (s *Shop) serveGroup(group []api.Request) []api.Reply {
 		}
 	}
 	if records == "" {
-		return replies
+		return replies, true
 	}
 	if s.disk.LogLength()+len(records) > s.room || next.Count() > book.MaxDone {
-		return refusals
+		return refusals, true
 	}
-	s.disk.WriteLog(records)
-	s.disk.SyncLog()
+	if !s.disk.WriteLog(records) || !s.disk.SyncLog() {
+		return nil, false
+	}
 	s.book = next
-	return replies
+	return replies, true
 }
 
 // lookedOver hands over the requests of a group in their order, when all have been looked over.

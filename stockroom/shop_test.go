@@ -3,53 +3,11 @@ package stockroom
 import (
 	"math/rand"
 	"slices"
-	"strings"
 	"testing"
 
 	"stockroom/api"
 	"stockroom/book"
-	"stockroom/frames"
 )
-
-// record is the frame of a record: seven numbers below 256.
-func record(numbers ...byte) string {
-	var b []byte
-	for _, n := range numbers {
-		b = append(b, n, 0, 0, 0)
-	}
-	return frames.Of(string(b))
-}
-
-func open(t *testing.T, files ...api.File) *Shop {
-	t.Helper()
-	s, e := Open(files, api.Config{Window: 20, Group: 16, Room: 5000})
-	if s == nil || e != api.OK {
-		t.Fatalf("Open = %v, %d", s, e)
-	}
-	return s
-}
-
-// P9: without power every question has this answer, whatever else it would have.
-func TestQuestionsWithoutPower(t *testing.T) {
-	s := open(t, api.File{Name: "log", Data: record(1, 1, 0, 0, 0, 5, 0) + record(2, 2, 1, 0, 7, 3, 10) + record(3, 3, 4, 0, 0, 0, 4)})
-	close(s.gone)
-	for _, i := range []int{-1, 0, 7, 8} {
-		if c, e := s.Cell(i); c != (api.Cell{}) || e != api.ErrDown {
-			t.Errorf("Cell(%d) = %v, %d", i, c, e)
-		}
-	}
-	for _, h := range []int{0, 1, 7, 50, 51} {
-		if x, e := s.Hold(h); x != (api.Hold{}) || e != api.ErrDown {
-			t.Errorf("Hold(%d) = %v, %d", h, x, e)
-		}
-	}
-	if n, e := s.Clock(); n != 0 || e != api.ErrDown {
-		t.Errorf("Clock = %d, %d", n, e)
-	}
-	if n, e := s.Count(); n != 0 || e != api.ErrDown {
-		t.Errorf("Count = %d, %d", n, e)
-	}
-}
 
 func requests(first, n int) []api.Request {
 	var l []api.Request
@@ -57,21 +15,6 @@ func requests(first, n int) []api.Request {
 		l = append(l, api.Request{ID: first + i, Count: 1})
 	}
 	return l
-}
-
-// P7: without power nothing is answered, and nothing done, not even of nothing.
-func TestServeWithoutPower(t *testing.T) {
-	s := open(t, api.File{Name: "log", Data: record(1, 1, 0, 0, 0, 1, 0)})
-	close(s.gone)
-	before := *s
-	for _, l := range [][]api.Request{nil, {}, {{}}, requests(1, 1), requests(1, 40)} {
-		if replies, e := s.Serve(l); replies != nil || e != api.ErrDown {
-			t.Errorf("Serve of %d requests = %v, %d", len(l), replies, e)
-		}
-	}
-	if *s != before {
-		t.Error("what was served without power changed the shop")
-	}
 }
 
 // P6, P7, P10, P12: a shop that is opened by what another leaves has its book, and remembers what that one does.
@@ -90,7 +33,7 @@ func TestAShopIsOutlivedByItsFiles(t *testing.T) {
 			if e != api.OK {
 				t.Fatalf("with %v: what is left may not be opened: error %d", c, e)
 			}
-			if again.book != s.book || again.disk != s.disk {
+			if again.book != s.book || !slices.Equal(again.Left(0, ""), left) {
 				t.Fatalf("with %v: opened again it has done %d, was %d", c, again.book.Count(), s.book.Count())
 			}
 			if len(left[0].Data) > c.Room {
@@ -98,37 +41,6 @@ func TestAShopIsOutlivedByItsFiles(t *testing.T) {
 			}
 			if r.Intn(2) == 0 {
 				s = again
-			}
-		}
-	}
-}
-
-// P10: without power Checkpoint does nothing.
-func TestCheckpointWithoutPower(t *testing.T) {
-	for _, files := range [][]api.File{nil, {{Name: "log", Data: record(1, 1, 0, 0, 0, 1, 0)}}, {{Name: "snap", Data: frames.Of(strings.Repeat("\x00", 80))}}} {
-		s := open(t, files...)
-		close(s.gone)
-		before := *s
-		for range 2 {
-			if e := s.Checkpoint(); e != api.ErrDown {
-				t.Errorf("Checkpoint = %d", e)
-			}
-		}
-		if *s != before {
-			t.Error("a checkpoint without power changed the shop")
-		}
-	}
-}
-
-// P12: what is left is told when the power is gone too.
-func TestLeftWithoutPower(t *testing.T) {
-	log, snap := api.File{Name: "log", Data: record(1, 1, 0, 0, 0, 1, 0)}, api.File{Name: "snap", Data: frames.Of(strings.Repeat("\x00", 80))}
-	for _, files := range [][]api.File{{log}, {log, snap}} {
-		s := open(t, files...)
-		close(s.gone)
-		for _, keep := range []int{-1, 0, 1, 99} {
-			if got := s.Left(keep, "junk"); !slices.Equal(got, files) {
-				t.Errorf("Left(%d) = %q, want %q", keep, got, files)
 			}
 		}
 	}

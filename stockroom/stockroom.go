@@ -14,10 +14,9 @@ import (
 // Shop keeps the book, and the files that it is opened by again.
 type Shop struct {
 	book  book.Book
-	group int           // how many requests are done together
-	room  int           // how many bytes the log may have
-	disk  disk.Disk     // without what was cut off
-	gone  chan struct{} // closed when the power goes
+	group int        // how many requests are done together
+	room  int        // how many bytes the log may have
+	disk  *disk.Disk // without what was cut off
 }
 
 // Frame frames a payload (P3).
@@ -61,25 +60,31 @@ func Open(files []api.File, c api.Config) (*Shop, api.Errno) {
 		group: c.Group,
 		room:  c.Room,
 		disk:  disk.Of(log[:end], snap),
-		gone:  make(chan struct{}),
 	}, api.OK
 }
 
 // Serve answers requests (P7, P8).
 func (s *Shop) Serve(l []api.Request) ([]api.Reply, api.Errno) {
-	if s.isDown() {
+	if s.disk.IsDown() {
 		return nil, api.ErrDown
 	}
-	replies := make([]api.Reply, 0, len(l))
+	var replies []api.Reply
+	e := api.OK
+serve:
 	for group := range slices.Chunk(l, s.group) {
-		replies = append(replies, s.serveGroup(group)...)
+		next, ok := s.serveGroup(group)
+		if !ok {
+			e = api.ErrDown
+			break serve
+		}
+		replies = append(replies, next...)
 	}
-	return replies, api.OK
+	return replies, e
 }
 
 // Cell tells what is in a cell (P9).
 func (s *Shop) Cell(i int) (api.Cell, api.Errno) {
-	if s.isDown() {
+	if s.disk.IsDown() {
 		return api.Cell{}, api.ErrDown
 	}
 	if i < 0 || i >= api.Cells {
@@ -90,7 +95,7 @@ func (s *Shop) Cell(i int) (api.Cell, api.Errno) {
 
 // Hold tells of a hold (P9).
 func (s *Shop) Hold(h int) (api.Hold, api.Errno) {
-	if s.isDown() {
+	if s.disk.IsDown() {
 		return api.Hold{}, api.ErrDown
 	}
 	if h < 1 || h > api.MaxHold {
@@ -105,7 +110,7 @@ func (s *Shop) Hold(h int) (api.Hold, api.Errno) {
 
 // Clock tells the time of the last tick (P9).
 func (s *Shop) Clock() (int, api.Errno) {
-	if s.isDown() {
+	if s.disk.IsDown() {
 		return 0, api.ErrDown
 	}
 	return s.book.Clock(), api.OK
@@ -113,7 +118,7 @@ func (s *Shop) Clock() (int, api.Errno) {
 
 // Count tells how many requests have been done (P9).
 func (s *Shop) Count() (int, api.Errno) {
-	if s.isDown() {
+	if s.disk.IsDown() {
 		return 0, api.ErrDown
 	}
 	return s.book.Count(), api.OK
@@ -121,30 +126,22 @@ func (s *Shop) Count() (int, api.Errno) {
 
 // Checkpoint writes a snapshot and empties the log (P10).
 func (s *Shop) Checkpoint() api.Errno {
-	if s.isDown() {
+	if s.disk.IsDown() {
 		return api.ErrDown
 	}
-	s.disk.WriteTmp(frames.Of(s.book.Snapshot()))
-	s.disk.SyncTmp()
-	s.disk.MakeSnap()
-	s.disk.EmptyLog()
-	return api.OK
+	snap := frames.Of(s.book.Snapshot())
+	if s.disk.WriteTmp(snap) && s.disk.SyncTmp() && s.disk.MakeSnap() && s.disk.EmptyLog() {
+		return api.OK
+	}
+	return api.ErrDown
 }
 
 // Arm says at which disk step from now on the power goes (P11).
-func (s *Shop) Arm(n int) {}
+func (s *Shop) Arm(n int) {
+	s.disk.Arm(n)
+}
 
 // Left tells what is on the disk, if the power goes now or is gone (P12).
 func (s *Shop) Left(keep int, junk string) []api.File {
 	return s.disk.Left(keep, junk)
-}
-
-// isDown tells whether the power is gone.
-func (s *Shop) isDown() bool {
-	select {
-	case <-s.gone:
-		return true
-	default:
-		return false
-	}
 }
